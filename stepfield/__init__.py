@@ -1,0 +1,1 @@
+"""Stepfield: fields of points come to by whole many times of told steps."""
