@@ -32,6 +32,8 @@ WORDS = (
     "NamedTuple TypedDict TYPE_CHECKING abstractmethod register mro elements open input version_info with_traceback "
     "add_note"
 ).split()
+WALKED = ("zip", "enumerate", "reversed", "range")
+WALKERS = ("list", "tuple", "dict", "sorted", "sum", "any", "all", "enumerate", "zip", "min", "max")
 DUNDERS = ("__init__", "__eq__", "__repr__", "__str__", "__len__")
 
 
@@ -65,6 +67,20 @@ def is_plain(node):
     if isinstance(node, ast.UnaryOp):
         return is_plain(node.operand)
     return isinstance(node, (ast.Constant, ast.Name))
+
+
+def walked_on_the_spot(tree):
+    for node in ast.walk(tree):
+        if isinstance(node, (ast.For, ast.comprehension)):
+            yield node.iter
+        elif isinstance(node, ast.Call) and isinstance(node.func, ast.Name) and node.func.id in WALKERS:
+            yield from node.args[:1]
+
+
+def names_from_outside(tree):
+    """The classes and the imports of a file."""
+    names = [node.name for node in tree.body if isinstance(node, ast.ClassDef)]
+    return names + [alias.name for node in tree.body if isinstance(node, ast.ImportFrom) for alias in node.names]
 
 
 class LanguageTest(unittest.TestCase):
@@ -118,6 +134,63 @@ class LanguageTest(unittest.TestCase):
                     self.assertNotIn(name, dir(builtins) if not isinstance(node, ast.Attribute) else [])
                 if isinstance(node, ast.Name) and hasattr(builtins, node.id):
                     self.assertIn(node.id, OWN_NAMES)
+
+    def test_statements(self):
+        for where, node in nodes():
+            with self.subTest(where=where):
+                if isinstance(node, ast.Assign):
+                    self.assertEqual(len(node.targets), 1)
+                    self.assertNotIsInstance(node.targets[0], (ast.Tuple, ast.List))
+                if isinstance(node, (ast.For, ast.While)):
+                    self.assertEqual(node.orelse, [])
+                if isinstance(node, ast.Try):
+                    self.assertEqual(node.finalbody, [])
+                if isinstance(node, ast.Compare):
+                    for sign, right in zip(node.ops, node.comparators):
+                        if isinstance(sign, (ast.Is, ast.IsNot)):
+                            self.assertIn(getattr(right, "value", 0), (None, True, False))
+                if isinstance(node, ast.arguments):
+                    self.assertEqual((node.vararg, node.kwarg, node.kwonlyargs, node.posonlyargs), (None, None, [], []))
+                if isinstance(node, ast.arg):
+                    self.assertIsNone(node.annotation)
+                if isinstance(node, ast.comprehension):
+                    self.assertLessEqual(len(node.ifs), 1)
+
+    def test_what_is_walked_is_walked_on_the_spot(self):
+        for path in files():
+            tree = ast.parse(path.read_text())
+            there = [id(node) for node in walked_on_the_spot(tree)]
+            for node in ast.walk(tree):
+                if isinstance(node, ast.Call) and isinstance(node.func, ast.Name) and node.func.id in WALKED:
+                    with self.subTest(path=path.name, line=node.lineno):
+                        self.assertIn(id(node), there)
+
+    def test_no_local_is_called_like_a_class_or_an_import(self):
+        for path in files():
+            tree = ast.parse(path.read_text())
+            outside = names_from_outside(tree)
+            for node in ast.walk(tree):
+                if isinstance(node, (ast.arg, ast.Name)):
+                    for name in bound_names(node):
+                        with self.subTest(path=path.name, line=node.lineno):
+                            self.assertNotIn(name, outside)
+
+    def test_imports_name_the_file_that_defines_and_go_in_no_round(self):
+        drawn = {}
+        for path in files():
+            tree = ast.parse(path.read_text())
+            rows = [node for node in tree.body if isinstance(node, ast.ImportFrom)]
+            drawn[path.stem] = [row.module.split(".")[1] for row in rows]
+            for row in rows:
+                source = ast.parse((PACKAGE / f"{row.module.split('.')[1]}.py").read_text())
+                defined = [node.name for node in source.body if isinstance(node, (ast.FunctionDef, ast.ClassDef))]
+                for alias in row.names:
+                    self.assertIn(alias.name, defined)
+        while drawn:
+            ends = [name for name in drawn if not any(other in drawn for other in drawn[name])]
+            self.assertNotEqual(ends, [], drawn)
+            for name in ends:
+                del drawn[name]
 
     def test_methods(self):
         own = {node.name for _, node in nodes() if isinstance(node, ast.FunctionDef)}
